@@ -1,0 +1,1 @@
+"""Farmates: roads too long to be walked, and what their matings make one."""

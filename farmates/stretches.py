@@ -1,0 +1,107 @@
+"""Roads, stretches and matings: how places are led, place for place, without going through them."""
+
+from farmates.errors import BadNumber, BadStretch
+
+FAR = 10 ** 18
+MOST = 24
+
+
+def need_length(number):
+    """Refuse what is no length of a road."""
+    if isinstance(number, bool) or number < 0 or number > FAR:
+        raise BadNumber(number)
+
+
+def is_mating(length, mating):
+    """Whether a tuple of four numbers is a mating of a road of this length."""
+    one, other, many, turned = mating
+    # True would pass for 1 in all that follows.
+    if any([isinstance(number, bool) for number in (length, one, other, many, turned)]):
+        return False
+    if turned not in (0, 1) or many < 1:
+        return False
+    return min(one, other) >= 0 and max(one, other) + many <= length
+
+
+def common(one, other):
+    """The greatest number that goes into both."""
+    while other != 0:
+        one, other = other, one % other
+    return one
+
+
+def normal(mating):
+    """The mating with its lesser stretch first."""
+    if mating[0] > mating[1]:
+        return back(mating)
+    return mating
+
+
+def back(mating):
+    """The mating told the other way about."""
+    one, other, many, turned = mating
+    return (other, one, many, turned)
+
+
+def led(mating, place):
+    """Where a place of the one stretch is led, or None."""
+    if not holds(mating, place, 1):
+        return None
+    return part(mating, place, 1)[1]
+
+
+def part(mating, at, many):
+    """The mating that leads just the stretch (at, many) as this one does."""
+    if not holds(mating, at, many):
+        raise BadStretch(at, many)
+    one, other, reach, turned = mating
+    ahead = at - one
+    if turned == 1:
+        # A turned mating counts the other stretch from its far end.
+        return (at, other + reach - ahead - many, many, 1)
+    return (at, other + ahead, many, 0)
+
+
+def holds(mating, at, many):
+    """Whether (at, many) is a stretch that lies wholly in the one stretch."""
+    if isinstance(at, bool) or isinstance(many, bool) or many < 1:
+        return False
+    return mating[0] <= at and at + many <= mating[0] + mating[2]
+
+
+def after(first, second):
+    """The mating that leads by first and then by second, of all places that both lead, or None."""
+    low = max(first[1], second[0])
+    many = min(first[1] + first[2], second[0] + second[2]) - low
+    if many < 1:
+        return None
+    start = part(back(first), low, many)
+    goal = part(second, low, many)
+    return (start[1], goal[1], many, start[3] ^ goal[3])
+
+
+def moved(mating, by):
+    """The mating with both stretches moved on."""
+    one, other, many, turned = mating
+    return (one + by, other + by, many, turned)
+
+
+def swelled(mating, times):
+    """The mating where each place has become so many side by side."""
+    one, other, many, turned = mating
+    return (times * one, times * other, times * many, turned)
+
+
+def clipped(mating, length):
+    """What is left of the mating, of the pairs of places that are both below length, or None."""
+    one, other, many, turned = mating
+    low = one
+    end = min(one + many, length)
+    if turned == 1:
+        # The first places of the one stretch are led to the far end, so these are lost first.
+        low = one + max(0, other + many - length)
+    else:
+        end = min(end, one + length - other)
+    if end <= low:
+        return None
+    return part(mating, low, end - low)
