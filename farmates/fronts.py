@@ -1,14 +1,14 @@
 """Fronts: roads that are folded from their far end by moves, and a judge of rows of moves."""
 
-from farmates.errors import BadMating, BadMove, Full
-from farmates.stretches import MOST, back, clipped, common, holds, is_mating, need_length, normal, part
+from farmates.errors import BadMove, Full
+from farmates.stretches import MOST, back, clipped, common, holds, need_length, need_mating, normal, part
 
 
-def need_matings(length, matings):
-    """Refuse the first that is no mating of the road, then too many of them."""
+def need_road(length, matings):
+    """Refuse a wrong length, then the first that is no mating of the road, then too many of them."""
+    need_length(length)
     for mating in matings:
-        if not is_mating(length, mating):
-            raise BadMating(mating)
+        need_mating(length, mating)
     if len(matings) > MOST:
         raise Full(MOST)
 
@@ -71,8 +71,7 @@ class Front:
     """A road that is being folded: its top, the matings that stand, and what became of the places above."""
 
     def __init__(self, length, matings):
-        need_length(length)
-        need_matings(length, matings)
+        need_road(length, matings)
         self.edge = length
         self.standing = {i: normal(mating) for i, mating in enumerate(matings)}
         self.past = []
@@ -91,8 +90,7 @@ class Front:
 
     def twin(self):
         """A front of its own that stands as this one does."""
-        other = Front(0, [])
-        other.edge = self.edge
+        other = wide_front(self.edge, [])
         other.standing = dict(self.standing)
         other.past = list(self.past)
         return other
@@ -205,12 +203,24 @@ class Front:
             self.standing[i] = normal(mating)
 
 
-def judge(length, matings, moves):
-    """None for a right row of moves, else the number of the move at which it fails."""
-    front = Front(length, matings)
+def wide_front(length, matings):
+    """A front that is held to no bounds: what is asked about a road may want a longer one, or more matings."""
+    front = Front(0, [])
+    front.edge = length
+    front.standing = {i: normal(mating) for i, mating in enumerate(matings)}
+    return front
+
+
+def fault_of(front, moves):
+    """Make the moves upon the front: None for a right row, else the number of the move at which it fails."""
     for at, move in enumerate(moves):
         try:
             front.make(move)
         except BadMove:
             return at
     return None if front.top() == 0 else len(moves)
+
+
+def judge(length, matings, moves):
+    """None for a right row of moves, else the number of the move at which it fails."""
+    return fault_of(Front(length, matings), moves)

@@ -1,6 +1,6 @@
 """Roads, stretches and matings: how places are led, place for place, without going through them."""
 
-from farmates.errors import BadNumber, BadStretch
+from farmates.errors import BadMating, BadNumber, BadPlace, BadStretch
 
 FAR = 10 ** 18
 MOST = 24
@@ -21,6 +21,24 @@ def is_mating(length, mating):
     if turned not in (0, 1) or many < 1:
         return False
     return min(one, other) >= 0 and max(one, other) + many <= length
+
+
+def need_mating(length, mating):
+    """Refuse what is no mating of a road of this length."""
+    if not is_mating(length, mating):
+        raise BadMating(mating)
+
+
+def need_place(length, place):
+    """Refuse what is no place of a road of this length."""
+    if isinstance(place, bool) or place < 0 or place >= length:
+        raise BadPlace(place)
+
+
+def need_stretch(length, at, many):
+    """Refuse what is no stretch of a road of this length."""
+    if isinstance(at, bool) or isinstance(many, bool) or at < 0 or many < 1 or at + many > length:
+        raise BadStretch(at, many)
 
 
 def common(one, other):

@@ -235,3 +235,79 @@ def plain_judge(length, matings, moves):
         if not front.make(move):
             return at
     return None if front.top == 0 else len(moves)
+
+
+class PlainFolding:
+    """What a folding tells, by the least place of each place."""
+
+    def __init__(self, length, matings):
+        self.homes = families(length, matings)
+        self.leasts = sorted(set(self.homes))
+
+    def count(self):
+        return len(self.leasts)
+
+    def least(self, place):
+        return self.homes[place]
+
+    def size(self, place):
+        return self.homes.count(self.homes[place])
+
+    def rank(self, place):
+        return self.leasts.index(self.homes[place])
+
+    def family(self, number):
+        return self.leasts[number]
+
+    def spans(self):
+        told = []
+        for place in self.leasts:
+            if told and told[-1][1] == place and told[-1][2] == self.size(place):
+                told[-1] = (told[-1][0], place + 1, told[-1][2])
+            else:
+                told.append((place, place + 1, self.size(place)))
+        return told
+
+    def sizes(self):
+        sizes = [self.size(place) for place in self.leasts]
+        return [(size, sizes.count(size)) for size in sorted(set(sizes))]
+
+    def meeting(self, at, many):
+        return len(set(self.homes[at:at + many]))
+
+    def inside(self, place, at, many):
+        return self.homes[at:at + many].count(self.homes[place])
+
+
+def plain_trail(length, matings, moves, place):
+    """The trail of a place by a row of moves."""
+    front = PlainFront(length, matings)
+    told = []
+    for at, move in enumerate(moves):
+        assert front.make(move)
+        if move[0] == "fold" and front.events[-1][1] <= place < front.events[-1][2]:
+            place = led_place(front.events[-1], place)
+            told.append((at, place))
+    return told
+
+
+def stretches_of(length):
+    """All stretches of a road."""
+    return [(at, many) for at in range(length) for many in range(1, length - at + 1)]
+
+
+def all_told(folding, length):
+    """All that a folding tells but its moves and trails, of all places and stretches."""
+    places = range(length)
+    stretches = stretches_of(length)
+    return {
+        "count": folding.count(),
+        "least": [folding.least(place) for place in places],
+        "size": [folding.size(place) for place in places],
+        "rank": [folding.rank(place) for place in places],
+        "family": [folding.family(number) for number in range(folding.count())],
+        "spans": folding.spans(),
+        "sizes": folding.sizes(),
+        "meeting": [folding.meeting(at, many) for at, many in stretches],
+        "inside": [folding.inside(place, at, many) for place in places for at, many in stretches],
+    }

@@ -7,7 +7,7 @@ import pathlib
 import re
 import unittest
 
-from farmates import errors, fronts, stretches
+from farmates import errors, foldings, fronts, papers, roads, stretches, words
 
 FOLDER = pathlib.Path(__file__).resolve().parent.parent / "farmates"
 FILES = sorted(FOLDER.glob("*.py"))
@@ -16,6 +16,12 @@ MAY_CALL = set(
     "isinstance ord repr any all divmod Exception ValueError TypeError KeyError IndexError LookupError "
     "ZeroDivisionError ArithmeticError OverflowError RuntimeError NotImplementedError NotImplemented iter next".split()
 )
+MAY_DO = set(
+    "append clear copy count endswith extend find get index insert isalnum isalpha isdigit islower isspace isupper items "
+    "join keys ljust lower lstrip partition pop remove replace reverse rfind rjust rpartition rsplit rstrip setdefault "
+    "split splitlines startswith strip update upper values zfill bit_length __init__".split()
+)
+CHANGING = set("append clear extend insert pop remove reverse setdefault update".split())
 DUNDERS = set("__init__ __eq__ __repr__ __str__ __len__ __enter__ __exit__ __call__ __iter__".split())
 BARRED_WORDS = set(
     "type typing typing_extensions enum Enum IntEnum StrEnum Flag IntFlag Generic Protocol ABC ABCMeta namedtuple "
@@ -137,6 +143,35 @@ class RulesTest(unittest.TestCase):
         stored = {node.attr for name, node in nodes(ast.Attribute) if isinstance(node.ctx, ast.Store)}
         self.assertEqual(methods & stored, set())
 
+    def test_methods_that_are_called(self):
+        own = {n.name for c in classes() for n in c.body if isinstance(n, ast.FunctionDef)}
+        for name, node in nodes(ast.Call):
+            if isinstance(node.func, ast.Attribute):
+                self.assertIn(node.func.attr, own | MAY_DO, name)
+
+    def test_attributes_that_are_read_are_assigned(self):
+        own = {n.name for c in classes() for n in c.body if isinstance(n, ast.FunctionDef)}
+        stored = {node.attr for name, node in nodes(ast.Attribute) if isinstance(node.ctx, ast.Store)}
+        for name, node in nodes(ast.Attribute):
+            self.assertIn(node.attr, own | stored | MAY_DO, name)
+        # An attribute of these names would be taken for the method of a builtin value.
+        self.assertEqual(stored & MAY_DO, set())
+
+    def test_default_values_are_plain(self):
+        for name, node in nodes(ast.arguments):
+            for told in node.defaults + [default for default in node.kw_defaults if default is not None]:
+                self.assertIsInstance(told, ast.Constant, name)
+
+    def test_what_loops_iterate_over_is_not_changed_in_them(self):
+        for name, loop in nodes(ast.For):
+            over = {ast.unparse(node) for node in ast.walk(loop.iter) if isinstance(node, (ast.Name, ast.Attribute))}
+            for row in loop.body:
+                for node in ast.walk(row):
+                    if isinstance(node, ast.Call) and isinstance(node.func, ast.Attribute) and node.func.attr in CHANGING:
+                        self.assertNotIn(ast.unparse(node.func.value), over, (name, loop.lineno))
+                    if isinstance(node, ast.Subscript) and not isinstance(node.ctx, ast.Load):
+                        self.assertNotIn(ast.unparse(node.value), over, (name, loop.lineno))
+
     def test_barred_statements_and_expressions(self):
         self.assertEqual(nodes(BARRED_NODES), [])
         for name, node in nodes(ast.Constant):
@@ -161,24 +196,67 @@ class RulesTest(unittest.TestCase):
 
 
 class InterfaceTest(unittest.TestCase):
-    def parameters(self, function):
-        return list(inspect.signature(function).parameters)
+    """Names, arguments and defaults, as the interface of DOC.md writes them."""
+
+    def told(self, function):
+        return str(inspect.signature(function))
+
+    def check_functions(self, module, *written):
+        for line in written:
+            name = line.split("(")[0]
+            self.assertEqual(name + self.told(getattr(module, name)), line)
+            self.assertEqual(getattr(module, name).__module__, module.__name__)
+
+    def check_class(self, kind, made, *written):
+        self.assertEqual(kind.__name__ + self.told(kind), made)
+        for line in written:
+            name = line.split("(")[0]
+            # Each method stands in the class itself.
+            self.assertIn(name, vars(kind))
+            self.assertEqual(name + self.told(getattr(kind, name)), line.replace("(", "(self, ").replace(", )", ")"))
 
     def test_stretches(self):
-        for name, told in [
-            ("need_length", ["number"]), ("is_mating", ["length", "mating"]), ("common", ["one", "other"]),
-            ("normal", ["mating"]), ("back", ["mating"]), ("led", ["mating", "place"]),
-            ("part", ["mating", "at", "many"]), ("after", ["first", "second"]), ("moved", ["mating", "by"]),
-            ("swelled", ["mating", "times"]), ("clipped", ["mating", "length"]),
-        ]:
-            self.assertEqual(self.parameters(getattr(stretches, name)), told, name)
+        self.check_functions(
+            stretches, "need_length(number)", "is_mating(length, mating)", "common(one, other)", "normal(mating)",
+            "back(mating)", "led(mating, place)", "part(mating, at, many)", "after(first, second)", "moved(mating, by)",
+            "swelled(mating, times)", "clipped(mating, length)",
+        )
+        self.assertEqual((stretches.FAR, stretches.MOST), (10 ** 18, 24))
 
     def test_fronts(self):
-        self.assertEqual(self.parameters(fronts.Front), ["length", "matings"])
-        self.assertEqual(self.parameters(fronts.judge), ["length", "matings", "moves"])
-        for name, told in [("top", []), ("left", []), ("make", ["move"]), ("led_on", []), ("twin", [])]:
-            self.assertIn(name, vars(fronts.Front))
-            self.assertEqual(self.parameters(getattr(fronts.Front, name)), ["self"] + told, name)
+        self.check_functions(fronts, "judge(length, matings, moves)")
+        self.check_class(fronts.Front, "Front(length, matings)", "top()", "left()", "make(move)", "led_on()", "twin()")
+
+    def test_foldings(self):
+        self.check_functions(foldings, "fold(length, matings)")
+        self.check_class(
+            foldings.Folding, "Folding(length, matings, *, moves=None)", "moves()", "count()", "least(place)",
+            "trail(place)", "size(place)", "rank(place)", "family(number)", "spans()", "sizes()", "meeting(at, many)",
+            "inside(place, at, many)",
+        )
+
+    def test_papers(self):
+        self.check_functions(
+            papers, "kin_paper(length, matings, one, other)", "judge_kin(length, matings, one, other, paper)",
+        )
+
+    def test_roads(self):
+        self.check_class(
+            roads.Road, "Road(length=0)", "mate(one, other, many, *, turned=0)", "strike(number)", "grow(more)",
+            "trim(length)", "swell(times)", "behind(other)", "length()", "matings()", "count()", "least(place)",
+            "size(place)", "rank(place)", "family(number)", "spans()", "sizes()", "meeting(at, many)",
+            "inside(place, at, many)", "moves()", "trail(place)", "kin(one, other)",
+            "implies(one, other, many, *, turned=0)", "alike(other)", "turned_about()", "folded()", "keeps()", "twin()",
+            "__eq__(other)", "__repr__()",
+        )
+
+    def test_words(self):
+        self.check_functions(
+            words, "copy_of(one, other, many)", "mirror(at, many)", "period(at, many, step)",
+            "most_letters(length, matings)", "least_word(length, matings)", "spelled(road, at, many)",
+            "is_period(road, step)",
+        )
+        self.assertEqual(words.LONGEST, 300)
 
     def test_errors_stand_in_their_file(self):
         for node in classes():

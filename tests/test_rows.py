@@ -8,6 +8,7 @@ from farmates.fronts import Front, judge
 from farmates.stretches import FAR, MOST, common, led, moved, swelled
 from tests.plain import bare_places, families, led_home, matings_of, plain_judge, turned_families
 from tests.rows import finish, right_row, wild_row
+from tests.samples import some_roads
 
 
 def events_of(length, matings, moves):
@@ -15,16 +16,6 @@ def events_of(length, matings, moves):
     for move in moves:
         front.make(move)
     return front.led_on()
-
-
-def some_roads(seed, many, longest, most):
-    """Short roads with their matings, the same ones in each run."""
-    chance = random.Random(seed)
-    roads = []
-    for at in range(many):
-        length = chance.randint(1, longest)
-        roads.append((length, [chance.choice(matings_of(length)) for k in range(chance.randint(0, most))]))
-    return roads
 
 
 class JudgeTest(unittest.TestCase):
