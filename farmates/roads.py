@@ -2,7 +2,7 @@
 
 from farmates.errors import BadNumber, Full, NoMating
 from farmates.foldings import Folding, families_of
-from farmates.stretches import FAR, MOST, clipped, moved, need_length, need_mating, swelled
+from farmates.stretches import FAR, MOST, clipped, moved, need_from, need_length, need_mating, need_within, swelled
 
 
 class Road:
@@ -22,14 +22,9 @@ class Road:
         self.extent = length
         self.standing = standing
 
-    def with_more(self, matings):
-        """Its matings by their numbers, and these behind them."""
-        standing = dict(self.standing)
-        number = max(list(standing), default=0)
-        for mating in matings:
-            number += 1
-            standing[number] = mating
-        return standing
+    def next_number(self):
+        """The number that a new mating gets."""
+        return max(list(self.standing), default=0) + 1
 
     def told(self):
         """The list of its matings, by rising numbers."""
@@ -37,12 +32,16 @@ class Road:
 
     def mate(self, one, other, many, *, turned=0):
         """Lay a stretch upon another one; the number of the mating."""
-        mating = (one, other, many, turned)
+        number = self.next_number()
+        self.mate_as(number, (one, other, many, turned))
+        return number
+
+    def mate_as(self, number, mating):
+        """Let a mating stand by this number, which none bears yet."""
         need_mating(self.extent, mating)
         if len(self.standing) >= MOST:
             raise Full(MOST)
-        self.become(self.extent, self.with_more([mating]))
-        return max(list(self.standing))
+        self.become(self.extent, {**self.standing, number: mating})
 
     def strike(self, number):
         """Let the mating of this number go."""
@@ -53,14 +52,12 @@ class Road:
 
     def grow(self, more):
         """Add so many places at the end."""
-        if isinstance(more, bool) or more < 0 or self.extent + more > FAR:
-            raise BadNumber(more)
+        need_within(0, FAR - self.extent, more)
         self.become(self.extent + more, self.standing)
 
     def trim(self, length):
         """Keep just so many places, and of the matings what stays."""
-        if isinstance(length, bool) or length < 0 or length > self.extent:
-            raise BadNumber(length)
+        need_within(0, self.extent, length)
         standing = {}
         for number in sorted(self.standing):
             mating = clipped(self.standing[number], length)
@@ -70,7 +67,8 @@ class Road:
 
     def swell(self, times):
         """Let each place become so many side by side."""
-        if isinstance(times, bool) or times < 1 or self.extent * times > FAR:
+        need_from(1, times)
+        if self.extent * times > FAR:
             raise BadNumber(times)
         self.become(self.extent * times, {k: swelled(self.standing[k], times) for k in self.standing})
 
@@ -81,7 +79,10 @@ class Road:
             raise BadNumber(length)
         if len(self.standing) + len(other.matings()) > MOST:
             raise Full(MOST)
-        self.become(length, self.with_more([moved(mating, self.extent) for number, mating in other.matings()]))
+        standing = dict(self.standing)
+        for at, (number, mating) in enumerate(other.matings()):
+            standing[self.next_number() + at] = moved(mating, self.extent)
+        self.become(length, standing)
 
     def length(self):
         """How many places it has."""

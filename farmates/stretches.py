@@ -6,10 +6,22 @@ FAR = 10 ** 18
 MOST = 24
 
 
+def need_from(low, number):
+    """Refuse what is no number from low on."""
+    if isinstance(number, bool) or number < low:
+        raise BadNumber(number)
+
+
+def need_within(low, high, number):
+    """Refuse what is no number from low to high."""
+    need_from(low, number)
+    if number > high:
+        raise BadNumber(number)
+
+
 def need_length(number):
     """Refuse what is no length of a road."""
-    if isinstance(number, bool) or number < 0 or number > FAR:
-        raise BadNumber(number)
+    need_within(0, FAR, number)
 
 
 def is_mating(length, mating):

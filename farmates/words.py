@@ -3,15 +3,9 @@
 from farmates.errors import BadNumber
 from farmates.foldings import Folding
 from farmates.fronts import need_road
-from farmates.stretches import need_stretch
+from farmates.stretches import need_from, need_stretch, need_within
 
 LONGEST = 300
-
-
-def need_from(low, number):
-    """Refuse what is no number from low on."""
-    if isinstance(number, bool) or number < low:
-        raise BadNumber(number)
 
 
 def copy_of(one, other, many):
@@ -33,9 +27,7 @@ def period(at, many, step):
     """The mating of a stretch whose letters come again by a step."""
     need_from(0, at)
     need_from(1, many)
-    need_from(1, step)
-    if step >= many:
-        raise BadNumber(step)
+    need_within(1, many - 1, step)
     return (at, at + step, many - step, 0)
 
 

@@ -7,7 +7,7 @@ import pathlib
 import re
 import unittest
 
-from farmates import errors, foldings, fronts, papers, roads, stretches, words
+from farmates import boards, desk, errors, foldings, fronts, hall, pages, papers, roads, stretches, words
 
 FOLDER = pathlib.Path(__file__).resolve().parent.parent / "farmates"
 FILES = sorted(FOLDER.glob("*.py"))
@@ -158,9 +158,59 @@ class RulesTest(unittest.TestCase):
         self.assertEqual(stored & MAY_DO, set())
 
     def test_default_values_are_plain(self):
+        plain = {n.targets[0].id for name, tree in trees() for n in tree.body
+                 if isinstance(n, ast.Assign) and isinstance(n.value, ast.Constant)}
         for name, node in nodes(ast.arguments):
             for told in node.defaults + [default for default in node.kw_defaults if default is not None]:
-                self.assertIsInstance(told, ast.Constant, name)
+                self.assertTrue(isinstance(told, ast.Constant) or told.id in plain, name)
+
+    def test_lists_and_dicts_at_module_level_are_only_read(self):
+        tables = {n.targets[0].id for name, tree in trees() for n in tree.body
+                  if isinstance(n, ast.Assign) and isinstance(n.value, (ast.List, ast.Dict))}
+        self.assertTrue(tables)
+        for name, tree in trees():
+            above = {child: node for node in ast.walk(tree) for child in ast.iter_child_nodes(node)}
+            for node in ast.walk(tree):
+                if isinstance(node, ast.Name) and node.id in tables and isinstance(node.ctx, ast.Load):
+                    use = above[node]
+                    # By an index, by a method that reads, or behind in.
+                    reads = isinstance(use, ast.Attribute) and use.attr in ("get", "items", "keys", "values")
+                    reads |= isinstance(use, ast.Subscript) and isinstance(use.ctx, ast.Load)
+                    reads |= isinstance(use, ast.Compare) and isinstance(use.ops[0], (ast.In, ast.NotIn))
+                    self.assertTrue(reads, (name, node.lineno))
+        for name, tree in trees():
+            for n in tree.body:
+                if isinstance(n, ast.Assign):
+                    inner = [part for part in ast.walk(n.value) if isinstance(part, (ast.List, ast.Dict)) and part != n.value]
+                    self.assertEqual(inner, [], name)
+
+    def test_double_underscore_methods(self):
+        for name, node in nodes(ast.FunctionDef):
+            if node.name in ("__eq__", "__repr__", "__str__", "__len__"):
+                self.assertIsInstance(node.body[-1], ast.Return)
+                self.assertEqual([n for n in ast.walk(node) if isinstance(n, (ast.Assign, ast.AugAssign, ast.Delete))], [])
+            if node.name == "__len__":
+                self.assertEqual(node.body[-1].value.func.id, "len")
+            if node.name == "__init__":
+                self.assertEqual([n for n in ast.walk(node) if isinstance(n, ast.Return)], [])
+
+    def test_finally_does_little(self):
+        for name, node in nodes(ast.Try):
+            for row in node.finalbody:
+                self.assertIsInstance(row, (ast.AugAssign, ast.Assign), name)
+                self.assertIsInstance(row.value, (ast.Constant, ast.Name, ast.Attribute))
+
+    def test_stars_in_calls_stand_ahead_of_names(self):
+        for name, node in nodes(ast.Call):
+            for told in node.args:
+                if isinstance(told, ast.Starred):
+                    self.assertIsInstance(told.value, ast.Name, name)
+
+    def test_no_sort_in_place_and_no_keywords_for_methods_of_values(self):
+        for name, node in nodes(ast.Call):
+            if isinstance(node.func, ast.Attribute):
+                self.assertNotEqual(node.func.attr, "sort", name)
+                self.assertTrue(node.func.attr not in MAY_DO - {"__init__"} or not node.keywords, name)
 
     def test_what_loops_iterate_over_is_not_changed_in_them(self):
         for name, loop in nodes(ast.For):
@@ -192,7 +242,8 @@ class RulesTest(unittest.TestCase):
         for name, node in nodes(ast.Raise):
             self.assertTrue(node.exc is None or node.exc.func.id in own, name)
         for name, node in nodes(ast.ExceptHandler):
-            self.assertIn(node.type.id, own)
+            for told in node.type.elts if isinstance(node.type, ast.Tuple) else [node.type]:
+                self.assertIn(told.id, own)
 
 
 class InterfaceTest(unittest.TestCase):
@@ -257,6 +308,31 @@ class InterfaceTest(unittest.TestCase):
             "is_period(road, step)",
         )
         self.assertEqual(words.LONGEST, 300)
+
+    def test_boards(self):
+        self.check_class(
+            boards.Board, "Board(cells)", "cells()", "sides()", "rim()", "corners()", "flipped(side)", "__len__()",
+            "__eq__(other)",
+        )
+        self.check_class(
+            boards.Loops, "Loops(board, counts)", "counts()", "board_now()", "road()", "start(side)", "curves()", "loops()",
+            "arcs()", "flip(side)", "times(k)", "twin()",
+        )
+        self.assertEqual((boards.CELLS, boards.DEEP), (8, 10 ** 15))
+
+    def test_hall(self):
+        self.check_class(
+            hall.Hall, "Hall(*, most=6)", "do(deed)", "together(deeds)", "undo()", "redo()", "names()", "road(name)", "ask(name)",
+            "folded(name)", "keeps(name)", "steps()", "twin()", "__len__()", "__eq__(other)", "__repr__()",
+        )
+        self.assertEqual(hall.ROADS, 6)
+
+    def test_pages(self):
+        self.check_functions(pages, "page(hall)", "read_page(text, *, most=6)")
+
+    def test_desk(self):
+        self.check_class(desk.Desk, "Desk(hall)", "say(line)", "log()")
+        self.assertEqual(sorted({"hall", "depth"} & set(vars(desk.Desk(hall.Hall())))), ["depth", "hall"])
 
     def test_errors_stand_in_their_file(self):
         for node in classes():
