@@ -134,6 +134,11 @@ class BadBoardTest(unittest.TestCase):
                     with self.subTest(side=side, at=at, k=k):
                         self.refused(cells, at)
 
+    def test_cells_of_other_than_three_sides(self):
+        for cell in [(), ("x",), ("x", "y"), ("x", "y", "za", "zb")]:
+            self.refused([cell], 0)
+            self.refused(FOUR[:2] + [cell], 2)
+
     def test_a_name_for_the_third_time(self):
         self.refused([("a", "a", "a")], 0)
         self.refused([("a", "-a", "a")], 0)

@@ -69,6 +69,8 @@ class LikenessesTest(unittest.TestCase):
             self.refused(wrong, period, 0, wrong, -8)
             self.refused(wrong, period, 0, 9, wrong)
         self.refused(0, period, 0, 0, 0)
+        self.refused(0, period, 0, 0, 5)
+        self.refused(5, period, 0, 1, 5)
         self.refused(0, period, 0, 9, 0)
         self.refused(9, period, 0, 9, 9)
         self.refused(10, period, 0, 9, 10)
